@@ -1,0 +1,1 @@
+"""Trees of files laid over one another."""
