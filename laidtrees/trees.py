@@ -15,7 +15,8 @@ def is_number(thing):
     return 0 <= thing <= LAST_NUMBER
 
 
-def _is_kind(thing, word, many):
+def is_kind(thing, word, many):
+    """Tell whether a thing is a tuple of so many things, the first of them a word."""
     if not isinstance(thing, tuple) or len(thing) != many:
         return False
     # Things of some kinds cannot be compared: only a text is.
@@ -24,20 +25,22 @@ def _is_kind(thing, word, many):
 
 def is_drawer(thing):
     """Tell whether a thing is a drawer, as a tree has it."""
-    return _is_kind(thing, "drawer", 1)
+    return is_kind(thing, "drawer", 1)
 
 
 def is_file(thing):
     """Tell whether a thing is a file, as a tree has it."""
-    return _is_kind(thing, "file", 3) and is_number(thing[1]) and is_text(thing[2])
+    return is_kind(thing, "file", 3) and is_number(thing[1]) and is_text(thing[2])
 
 
-def _has_drawers_above(tree):
+def has_drawers_above(tree):
+    """Tell whether a tree, or a layer, has a drawer at the root and above each path."""
     tops = [()] + [above(path) for path in tree if path]
-    return all(top in tree and is_drawer(tree[top]) for top in tops)
+    return all(top in tree and tree[top][0] == "drawer" for top in tops)
 
 
-def _has_one_text_each(things):
+def has_one_text_each(things):
+    """Tell whether all files of one number have one text."""
     texts = {}
     for thing in things:
         if is_file(thing) and texts.setdefault(thing[1], thing[2]) != thing[2]:
@@ -54,7 +57,7 @@ def is_tree(thing):
     things = list(thing.values())
     if not all(is_drawer(what) or is_file(what) for what in things):
         return False
-    return _has_drawers_above(thing) and _has_one_text_each(things)
+    return has_drawers_above(thing) and has_one_text_each(things)
 
 
 def check_tree(thing):
@@ -64,16 +67,15 @@ def check_tree(thing):
 
 
 def renumbered(tree):
-    """The plain tree like a tree, whatever whole numbers its files have."""
+    """A tree, or a layer, in rising order, its files numbered by their first paths, whatever numbers they had."""
     numbers = {}
     found = {}
     for path in sorted(tree):
         thing = tree[path]
         if thing[0] == "file":
             number = numbers.setdefault(thing[1], len(numbers))
-            found[path] = ("file", number, thing[2])
-        else:
-            found[path] = DRAWER
+            thing = ("file", number, thing[2])
+        found[path] = thing
     return found
 
 

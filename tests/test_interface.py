@@ -5,12 +5,22 @@ import unittest
 FUNCTIONS = {
     "laidtrees.paths": {"is_name": 1, "is_path": 1, "is_text": 1, "above": 1, "is_within": 2, "beginnings": 1},
     "laidtrees.trees": {"is_tree": 1, "plain": 1, "alike": 2, "names_in": 2, "ties": 1},
+    "laidtrees.layers": {"is_layer": 1, "is_stack": 1, "shown": 2, "laid": 1, "look": 2, "open_drawers": 2},
+    "laidtrees.turning": {"layer_to": 2, "together": 2, "parting": 2},
+    "laidtrees.texts": {"layer_text": 1, "read_layer": 1},
 }
 CLASSES = {
     ("laidtrees.houses", "House"): {
         "make": ["path"], "write": ["path", "*text"], "add": ["path", "*text"], "remove": ["path"], "clear": ["path"],
         "move": ["old", "new"], "tie": ["old", "new"], "kind": ["path"], "read": ["path"], "listed": ["path"],
         "tied": ["path"], "tree": [], "twin": [], "__len__": [], "__init__": ["tree"],
+    },
+    ("laidtrees.mounts", "Mount"): {
+        "make": ["path"], "write": ["path", "*text"], "add": ["path", "*text"], "remove": ["path"], "clear": ["path"],
+        "move": ["old", "new"], "tie": ["old", "new"], "kind": ["path"], "read": ["path"], "listed": ["path"],
+        "tied": ["path"], "tree": [], "twin": [], "__init__": ["stack", "*keep"], "many": [], "upper": [], "below": [],
+        "broken": [], "freeze": [], "join": [], "opened": ["path"], "text_of": ["handle"], "is_stale": ["handle"],
+        "shut": ["handle"], "power": ["steps"], "steps": [], "is_dark": [], "mend": [],
     },
 }
 

@@ -108,3 +108,72 @@ def two_letters():
 def wide(many):
     """A tree of so many paths, all of them empty drawers right below the root."""
     return {(): ("drawer",), **{(name,): ("drawer",) for name in two_letters()[:many - 1]}}
+
+
+def no_layers():
+    """Things that are no layers; those of many kinds, and dicts that are nearly layers."""
+    return anything() + nearly_layers() + ["", "a", 0, 1, (), ("a",), {}, [((), ("drawer", False))]]
+
+
+def nearly_layers():
+    root = {(): ("drawer", False)}
+    wrong = [
+        None, True, False, 0, "drawer", "gone", b"gone", ["gone"], ["drawer", True], (), ("drawer",), ("gone", False),
+        ("drawer", 0), ("drawer", 1), ("drawer", None), ("drawer", "True"), ("drawer", ()), ("drawer", []),
+        ("drawer", Odd()), ("drawer", False, False), ("drawer", True, 0), ("Drawer", False), ("open", False),
+        ("gone", ""), ("gone", 0, ""), ("Gone",), ("file",), ("file", 0), ("file", False), ("file", 0, "a", "b"),
+        ["file", 0, "a"], ("file", True, "a"), ("file", False, "a"), ("file", -1, "a"), ("file", 1000, "a"),
+        ("file", None, "a"), ("file", "0", "a"), ("file", 0, None), ("file", 0, "A"), ("file", 0, "a" * 41),
+        ("file", 0, b"a"), ("file", 0, 0), ("file", 0, True), ("file", [], "a"), ("file", 0, []), (None,), (True,),
+        (b"gone",), (Odd(),), (Odd(), False), (["drawer"], False), ("file", Odd(), "a"), ("file", 0, Odd()), Odd(),
+        {"gone": 1}, {"gone"}, object(), deep(), endless(),
+    ]
+    keys = [
+        None, True, 0, "", "a", b"a", "()", ("",), ("abcde",), ("A",), ("a", ""), (1,), (True,), (None,), ((),),
+        (("a",),), frozenset(), ("a",) * 6, object(), len,
+    ]
+    found = [{(): thing} for thing in wrong]
+    found += [{**root, ("a",): thing} for thing in wrong]
+    found += [{**root, key: ("drawer", False)} for key in keys]
+    found += [{key: ("drawer", False)} for key in keys]
+    found += [
+        {},
+        {(): ("gone",)},
+        {(): ("file", 0, "")},
+        {(): ("drawer",)},
+        {("a",): ("drawer", False)},
+        {("a",): ("gone",)},
+        {**root, ("a", "b"): ("drawer", False)},
+        {**root, ("a", "b"): ("gone",)},
+        {**root, ("a",): ("gone",), ("a", "b"): ("gone",)},
+        {**root, ("a",): ("gone",), ("a", "b"): ("drawer", False)},
+        {**root, ("a",): ("file", 0, ""), ("a", "b"): ("gone",)},
+        {**root, ("a",): ("file", 0, ""), ("a", "b"): ("file", 0, "")},
+        {**root, ("a",): ("drawer", True), ("a", "b", "c"): ("file", 0, "")},
+        {**root, ("a",): ("file", 0, "a"), ("b",): ("file", 0, "b")},
+        {**root, ("a",): ("file", 999, ""), ("b",): ("file", 3, ""), ("c",): ("file", 999, " ")},
+        wide_layer(41),
+    ]
+    return found
+
+
+def wide_layer(many, entry=("drawer", False), top=()):
+    """A layer of so many paths; right below a drawer they all have one entry."""
+    tops = {top[:long]: ("drawer", False) for long in range(len(top) + 1)}
+    return {**tops, **{top + (name,): entry for name in two_letters()[:many - len(tops)]}}
+
+
+def no_stacks():
+    root = {(): ("drawer", False)}
+    return anything() + [thing for thing in nearly_layers()] + [
+        "", 0, 1, (), {}, root, (root,), {0: root}, [root] * 5, [root] * 100000, [[root]], [(root,)],
+        [root, None], [None, root], [root, root, root, {}], [root, wide_layer(41)], [{}], [{}, root], [root, []],
+        [root, {(): ("drawer",)}],
+    ] + [[thing] for thing in no_layers()]
+
+
+def no_numbers():
+    """Things that are no whole numbers from 0 to 999, but None."""
+    return [thing for thing in anything() if thing is not None] + [
+        "", "0", (), {}, (0,), [0], "None", b"0", 1001, -2, 2 ** 70,
+    ]
