@@ -5,11 +5,6 @@ from laidtrees.paths import begins_with
 from laidtrees.trees import DRAWER
 
 
-def but_for_number(entry):
-    """An entry of a layer without the number of its file."""
-    return ("file", entry[2]) if entry[0] == "file" else entry
-
-
 def _of_file(things, number):
     return [path for path, thing in things.items() if thing[0] == "file" and thing[1] == number]
 
@@ -33,10 +28,10 @@ class Draft:
 
     def give(self, path, text):
         """Give the file at a path a text, or put a new file where nothing is."""
-        if path not in self._tree:
+        if path in self._tree:
+            self._take_up([path])
+        else:
             put_entry(self.entries, path, self._new_file(text))
-            return
-        self._take_up([path])
         number = self.entries[path][1]
         paths = _of_file(self.entries, number)
         for other in paths:
@@ -65,10 +60,10 @@ class Draft:
             put_entry(self.entries, path, GONE)
 
     def changes(self, entries):
-        """How many paths have another entry here than there, but for numbers."""
-        here = {path: but_for_number(entry) for path, entry in self.entries.items()}
-        there = {path: but_for_number(entry) for path, entry in entries.items()}
-        return len([path for path in {**here, **there} if here.get(path) != there.get(path)])
+        """How many paths have another entry here than there."""
+        # A file never gets another number here, so what is another entry is so but for numbers, too.
+        paths = sorted(set(entries) | set(self.entries))
+        return len([path for path in paths if entries.get(path) != self.entries.get(path)])
 
     def _is_gone(self, path):
         return self.entries.get(path) == GONE

@@ -129,5 +129,5 @@ def open_drawers(layer, tree):
     """The rising list of the paths of a layer's drawers that are open over a tree."""
     check_layer(layer)
     check_tree(tree)
-    drawers = [path for path, thing in tree.items() if thing[0] == "drawer" and path in layer]
+    drawers = [path for path, thing in tree.items() if thing == DRAWER and path in layer]
     return sorted([path for path in drawers if lets_through(layer, path)])

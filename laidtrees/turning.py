@@ -14,7 +14,7 @@ def _check_few(one, other):
 
 
 def _groups(tree):
-    """The paths of each file of a tree, rising, by its number."""
+    """The paths of each file of a tree, rising, by its number; the file with the first path comes first."""
     found = {}
     for path in sorted(tree):
         if tree[path][0] == "file":
@@ -33,7 +33,7 @@ def _source(paths, tree, text):
 def _left_below(tree, other):
     """The paths of another tree's files that can be seen from a tree, each of its files as one file only."""
     best = {}
-    for paths in sorted(_groups(other).values()):
+    for paths in _groups(other).values():
         number = _source(paths, tree, other[paths[0]][2])
         # The one with the most paths stays below: so the fewest entries are needed.
         if number is not None and len(paths) > len(best.get(number, [])):
@@ -49,10 +49,10 @@ def layer_to(tree, other):
     below = _left_below(tree, other)
     layer = {(): SEE_THROUGH}
     for path, thing in other.items():
-        if thing[0] == "file" and path not in below:
-            put_entry(layer, path, thing)
-        elif thing[0] == "drawer" and tree.get(path) != DRAWER:
+        if thing == DRAWER and tree.get(path) != DRAWER:
             put_entry(layer, path, SEE_THROUGH)
+        if thing != DRAWER and path not in below:
+            put_entry(layer, path, thing)
     for path in tree:
         # Below the first path that is gone, and where a file is put, nothing is seen.
         if path not in other and other.get(path[:-1]) == DRAWER:

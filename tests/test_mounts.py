@@ -318,6 +318,15 @@ class Move(Case):
         self.assertEqual(one.tied(B), [B])
         self.assertEqual(one.tied(("c", "n", "f")), [("c", "n", "f"), ("c", "n", "h", "i")])
 
+    def test_those_of_one_deed_are_broken_off_rising(self):
+        low = {(): S, A: S, **{("a", name): file(at % 2) for at, name in enumerate("bcdef")}, X: file(0), Y: file(1)}
+        one = Mount([low], keep=False)
+        one.move(A, B)
+        self.assertEqual(one.broken(), [("a", name) for name in "bcdef"])
+        one.write(Y, text="new")
+        self.assertEqual(one.tied(("b", "b")), [("b", "b"), ("b", "d"), ("b", "f")])
+        self.assertEqual(one.broken(), [("a", name) for name in "bcdef"])
+
     def test_ties_within_alone_are_not_broken_off(self):
         one = mount(False)
         one.remove(B)

@@ -31,6 +31,24 @@ def bound(tree):
     return found
 
 
+def locally(tree):
+    """All names that a file binds in its functions."""
+    found = set()
+    for node in ast.walk(tree):
+        if isinstance(node, (ast.FunctionDef, ast.Lambda)):
+            found |= {one.arg for one in ast.walk(node) if isinstance(one, ast.arg)}
+            found |= {one.id for one in ast.walk(node) if isinstance(one, ast.Name) and stores(one)}
+    return found
+
+
+def stores(node):
+    return isinstance(node.ctx, ast.Store)
+
+
+def name_of(call):
+    return call.func.attr if isinstance(call.func, ast.Attribute) else ""
+
+
 class Rules(unittest.TestCase):
     def nodes(self, *kinds):
         for path, text in sources().items():
@@ -92,6 +110,36 @@ class Rules(unittest.TestCase):
         for path, node in self.nodes(ast.Name, ast.Attribute, ast.arg, ast.FunctionDef, ast.ClassDef):
             for field in ("id", "attr", "arg", "name"):
                 self.assertNotIn(getattr(node, field, None), WORDS, path)
+
+    def test_no_local_name_is_that_of_a_class_or_an_import(self):
+        for path, text in sources().items():
+            tree = ast.parse(text)
+            top = {name.name for node in tree.body if isinstance(node, ast.ImportFrom) for name in node.names}
+            top |= {node.name for node in tree.body if isinstance(node, ast.ClassDef)}
+            self.assertEqual(top & locally(tree), set(), path)
+
+    def test_no_name_is_a_method_and_an_attribute(self):
+        for path, node in self.nodes(ast.ClassDef):
+            methods = [one.name for one in node.body if isinstance(one, ast.FunctionDef)]
+            self.assertEqual(len(methods), len(set(methods)), path)
+            stored = {one.attr for one in ast.walk(node) if isinstance(one, ast.Attribute) and stores(one)}
+            self.assertEqual(stored & set(methods), set(), path)
+
+    def test_no_keywords_for_methods_with_names_of_builtin_ones(self):
+        for path, node in self.nodes(ast.Call):
+            if hasattr(str, name_of(node)) or hasattr(dict, name_of(node)) or hasattr(list, name_of(node)):
+                self.assertEqual(node.keywords, [], path)
+
+    def test_imports_go_around_in_no_circle(self):
+        wanted = {path.stem: set() for path in sources()}
+        for path, node in self.nodes(ast.ImportFrom):
+            if node.module.startswith("laidtrees."):
+                wanted[path.stem].add(node.module.split(".")[-1])
+        while wanted:
+            free = [name for name in wanted if not wanted[name] & set(wanted)]
+            self.assertTrue(free, wanted)
+            for name in free:
+                del wanted[name]
 
     def test_double_underscores(self):
         for path, node in self.nodes(ast.FunctionDef):

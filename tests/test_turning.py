@@ -81,6 +81,13 @@ class LayerTo(unittest.TestCase):
             {(): S, B: file(0, "t"), X: file(1, "t")},
         )
 
+    def test_one_file_that_becomes_two_as_large(self):
+        tree = {(): D, A: file(3, "t"), B: file(3, "t"), X: file(3, "t"), Y: file(3, "t")}
+        other = {(): D, A: file(0, "t"), B: file(1, "t"), X: file(0, "t"), Y: file(1, "t")}
+        for order in itertools.permutations(other):
+            layer = self.check({path: tree[path] for path in order}, {path: other[path] for path in order})
+            self.assertEqual(layer, {(): S, B: file(0, "t"), Y: file(0, "t")})
+
     def test_a_moved_file(self):
         tree = {(): D, A: D, ("a", "f"): file(0, "t"), B: D}
         other = {(): D, A: D, B: D, ("b", "f"): file(0, "t")}
